@@ -1,0 +1,1 @@
+"""Oddreel: hands that mend themselves from any state."""
