@@ -1,7 +1,7 @@
 """The mark on a ring: who has it, and how it goes on."""
 
 from oddreel.errors import NotNow
-from oddreel.things import is_whole
+from oddreel.hands import is_among, with_number
 
 
 def has_mark(state, hand):
@@ -19,12 +19,11 @@ def one_more(number, size):
 
 
 def moved(state, size, hand):
-    # True == 1 would else let a truth pass for hand 1.
-    if not is_whole(hand) or hand not in marked(state):
+    if not is_among(hand, marked(state)):
         # The hand is left out of the words: Python refuses to write out very long numbers.
         raise NotNow("this hand has no mark")
     number = one_more(state[0], size) if hand == 0 else state[hand - 1]
-    return state[:hand] + (number,) + state[hand + 1:]
+    return with_number(state, hand, number)
 
 
 def shifted(state, size, by):

@@ -46,6 +46,28 @@ def bound_names(path):
     return found + [node.id for node in nodes(path, ast.Name) if isinstance(node.ctx, ast.Store)]
 
 
+def drawn_names(path):
+    return [name.asname or name.name for node in nodes(path, ast.ImportFrom) for name in node.names]
+
+
+def drawn_files(path):
+    return [PACKAGE / (node.module.split(".")[1] + ".py") for node in nodes(path, ast.ImportFrom)]
+
+
+def is_docstring(node):
+    return isinstance(node, ast.Expr) and isinstance(node.value, ast.Constant) and isinstance(node.value.value, str)
+
+
+def calls(path, *names):
+    return [node for node in nodes(path, ast.Call) if isinstance(node.func, ast.Name) and node.func.id in names]
+
+
+def walked_on_the_spot(path):
+    places = [node.iter for node in nodes(path, ast.For, ast.comprehension)]
+    walkers = ("list", "tuple", "dict", "sorted", "sum", "any", "all", "enumerate", "zip", "min", "max")
+    return places + [node.args[0] for node in calls(path, *walkers) if node.args]
+
+
 class Language(unittest.TestCase):
     def test_the_package_is_there(self):
         self.assertIn(PACKAGE / "__init__.py", files())
@@ -101,7 +123,7 @@ class Language(unittest.TestCase):
             for name in bound:
                 self.assertRegex(name, r"^([A-Za-z]\w*|__(init|eq|repr|str|len)__|__(all|version)__)$", path)
                 self.assertFalse(is_pythons_own(name), (path, name))
-            drawn = [name.asname or name.name for node in nodes(path, ast.ImportFrom) for name in node.names]
+            drawn = drawn_names(path)
             for node in nodes(path, ast.Name):
                 self.assertIn(node.id, bound + drawn + NAMES, (path, node.lineno))
 
@@ -119,6 +141,52 @@ class Language(unittest.TestCase):
                     if isinstance(sign, (ast.Is, ast.IsNot)):
                         self.assertTrue(isinstance(right, ast.Constant) and right.value in (None, True, False),
                                         (path, node.lineno))
+
+    def test_the_top_of_a_file(self):
+        for path in files():
+            top = ast.parse(path.read_text()).body
+            self.assertTrue(is_docstring(top[0]), path)
+            for node in top[1:]:
+                self.assertIsInstance(node, (ast.ImportFrom, ast.FunctionDef, ast.ClassDef, ast.Assign), path)
+            once = [node.name for node in top if isinstance(node, (ast.FunctionDef, ast.ClassDef))]
+            once += [node.targets[0].id for node in top if isinstance(node, ast.Assign)] + drawn_names(path)
+            self.assertEqual(len(once), len(set(once)), path)
+
+    def test_parameters(self):
+        for path in files():
+            for node in nodes(path, ast.arguments):
+                others = (node.vararg, node.kwarg, node.kwonlyargs, node.posonlyargs)
+                self.assertEqual(others, (None, None, [], []), path)
+            # None of them, and no local either, is called like a class or an import of its file.
+            taken = drawn_names(path) + [node.name for node in nodes(path, ast.ClassDef)]
+            inner = [node.arg for node in nodes(path, ast.arg)]
+            inner += [node.id for node in nodes(path, ast.Name) if isinstance(node.ctx, ast.Store)]
+            self.assertEqual(set(inner) & set(taken), set(), path)
+
+    def test_no_two_files_draw_from_one_another(self):
+        for path in files():
+            reached = set()
+            left = drawn_files(path)
+            while left:
+                other = left.pop()
+                if other not in reached:
+                    reached.add(other)
+                    left += drawn_files(other)
+            self.assertNotIn(path, reached)
+
+    def test_walked_at_once(self):
+        for path in files():
+            places = [(node.lineno, node.col_offset) for node in walked_on_the_spot(path)]
+            for node in calls(path, "zip", "enumerate", "reversed", "range"):
+                self.assertIn((node.lineno, node.col_offset), places, path)
+
+    def test_numbers_and_texts(self):
+        for path in files():
+            for node in nodes(path, ast.Constant):
+                self.assertNotIn("%", str(node.value), (path, node.lineno))
+            for node in nodes(path, ast.BinOp):
+                if isinstance(node.op, ast.Pow):
+                    self.assertIsInstance(node.right, ast.Constant, (path, node.lineno))
 
 
 if __name__ == "__main__":

@@ -2,21 +2,12 @@
 import itertools
 import unittest
 
+from helping import Draw
 from oddreel.marks import marked, moved, shifted
 
 
 def bound(many):
     return 3 * many * (many - 1) // 2
-
-
-class Draw:
-    # A fixed rule in the place of chance, so that each run of the tests is the same.
-    def __init__(self, seed):
-        self.now = seed
-
-    def below(self, limit):
-        self.now = (self.now * 6364136223846793005 + 1442695040888963407) % 2 ** 64
-        return (self.now >> 33) % limit
 
 
 def least(state, size):
